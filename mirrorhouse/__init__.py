@@ -1,0 +1,1 @@
+"""Mirrorhouse: words of mirrors."""

@@ -1,0 +1,163 @@
+"""The form of the package's files: what of LANGUAGE.md can be seen row by row and node by node."""
+
+import ast
+import builtins
+import pathlib
+import re
+import unittest
+
+PACKAGE = pathlib.Path(__file__).resolve().parent.parent / "mirrorhouse"
+FILES = sorted(path for path in PACKAGE.rglob("*.py"))
+
+NODES = """
+Module Import ImportFrom alias FunctionDef arguments arg Lambda ClassDef Assign AugAssign If While For Return Break
+Continue Pass Raise Try ExceptHandler Expr Constant List Tuple Dict Set BinOp UnaryOp BoolOp Compare IfExp Call
+Attribute Subscript Slice ListComp comprehension JoinedStr FormattedValue Name keyword Load Store
+Add Sub Mult FloorDiv Mod Pow BitAnd BitOr BitXor LShift RShift Invert UAdd USub Not And Or
+Eq NotEq Lt LtE Gt GtE Is IsNot In NotIn
+""".split()
+
+PYTHONS_OWN = """
+len range enumerate zip min max sum abs sorted reversed int str bool list tuple dict set frozenset isinstance ord repr
+any all divmod Exception ValueError TypeError KeyError IndexError LookupError ZeroDivisionError ArithmeticError
+OverflowError RuntimeError NotImplementedError AttributeError StopIteration
+""".split()
+
+METHODS = """
+append clear copy count endswith extend find get index insert isalnum isalpha isdigit islower isspace isupper items
+join keys ljust lower lstrip partition pop remove replace reverse rfind rjust rpartition rsplit rstrip setdefault split
+splitlines startswith strip update upper values zfill bit_length
+""".split()
+
+UNDERSCORED = "__init__ __eq__ __repr__ __str__ __len__".split()
+
+WORDS_NOWHERE = re.compile(
+    r"\b(type|typing|typing_extensions|enum|Enum|IntEnum|StrEnum|Flag|IntFlag|Generic|Protocol|ABC|ABCMeta|namedtuple"
+    r"|NamedTuple|TypedDict|TYPE_CHECKING|abstractmethod)\b|dataclass|overload|contextmanager"
+)
+
+NOT_USED = "register mro elements open input version_info with_traceback add_note format format_map".split()
+
+
+def nodes_of(path):
+    return list(ast.walk(ast.parse(path.read_text(encoding="utf-8"))))
+
+
+def bound_names(nodes):
+    names = []
+    for node in nodes:
+        if isinstance(node, (ast.FunctionDef, ast.ClassDef)):
+            names.append(node.name)
+        elif isinstance(node, ast.arg):
+            names.append(node.arg)
+        elif isinstance(node, ast.Name) and isinstance(node.ctx, ast.Store):
+            names.append(node.id)
+        elif isinstance(node, ast.Attribute) and isinstance(node.ctx, ast.Store):
+            names.append(node.attr)
+        elif isinstance(node, ast.ExceptHandler) and node.name:
+            names.append(node.name)
+    return names
+
+
+class Form(unittest.TestCase):
+    def test_the_folder_holds_the_package_alone(self):
+        self.assertIn(PACKAGE / "__init__.py", FILES)
+        for path in PACKAGE.rglob("*"):
+            if "__pycache__" not in path.parts:
+                self.assertIn(path, FILES)
+                self.assertRegex(path.stem, r"^([a-z][a-z0-9_]*|__init__|__main__)$")
+                self.assertNotIn(path.stem, dir(builtins))
+
+    def test_rows_and_signs(self):
+        for path in FILES:
+            rows = path.read_text(encoding="utf-8").split("\n")
+            self.assertLessEqual(len(rows), 400, path)
+            for number, row in enumerate(rows, start=1):
+                with self.subTest(file=path.name, row=number):
+                    self.assertRegex(row, r"^[ -~]{0,120}$")
+                    self.assertNotRegex(row, WORDS_NOWHERE)
+
+    def test_nodes(self):
+        for path in FILES:
+            for node in nodes_of(path):
+                with self.subTest(file=path.name, row=getattr(node, "lineno", 0)):
+                    self.assertIn(type(node).__name__, NODES)
+
+    def test_statements(self):
+        for path in FILES:
+            for node in nodes_of(path):
+                with self.subTest(file=path.name, row=getattr(node, "lineno", 0)):
+                    if isinstance(node, ast.Assign):
+                        self.assertEqual(len(node.targets), 1)
+                    if isinstance(node, (ast.For, ast.While)):
+                        self.assertEqual(node.orelse, [])
+                    if isinstance(node, ast.Try):
+                        self.assertEqual(node.finalbody, [])
+                    if isinstance(node, ast.ListComp):
+                        self.assertEqual(len(node.generators), 1)
+                        self.assertLessEqual(len(node.generators[0].ifs), 1)
+
+    def test_values(self):
+        for path in FILES:
+            for node in nodes_of(path):
+                with self.subTest(file=path.name, row=getattr(node, "lineno", 0)):
+                    if isinstance(node, ast.Constant):
+                        self.assertIn(type(node.value), (int, str, bool, type(None)))
+                        self.assertNotIn("%", str(node.value))
+                    if isinstance(node, ast.FormattedValue):
+                        self.assertIsInstance(node.value, ast.Name)
+                        self.assertIsNone(node.format_spec)
+
+    def test_functions_and_classes(self):
+        for path in FILES:
+            for node in nodes_of(path):
+                with self.subTest(file=path.name, row=getattr(node, "lineno", 0)):
+                    if isinstance(node, (ast.FunctionDef, ast.ClassDef)):
+                        self.assertEqual(node.decorator_list, [])
+                    if isinstance(node, ast.FunctionDef):
+                        self.assertLessEqual(node.end_lineno - node.lineno + 1, 40)
+                        self.assertIsNone(node.args.vararg)
+                        self.assertIsNone(node.args.kwarg)
+                        self.assertEqual(node.args.kwonlyargs, [])
+                    if isinstance(node, ast.ClassDef):
+                        self.assertLessEqual(len(node.bases), 1)
+                        for part in node.body:
+                            self.assertIsInstance(part, (ast.FunctionDef, ast.Pass))
+
+    def test_imports(self):
+        for path in FILES:
+            for node in nodes_of(path):
+                with self.subTest(file=path.name, row=getattr(node, "lineno", 0)):
+                    if isinstance(node, ast.Import):
+                        self.assertEqual((path.name, node.names[0].name), ("__main__.py", "sys"))
+                    if isinstance(node, ast.ImportFrom):
+                        self.assertEqual(node.level, 0)
+                        self.assertRegex(node.module, r"^mirrorhouse\.[a-z_]+$")
+                        for name in node.names:
+                            self.assertNotEqual(name.name, "*")
+
+    def test_names(self):
+        for path in FILES:
+            nodes = nodes_of(path)
+            for name in bound_names(nodes):
+                with self.subTest(file=path.name, name=name):
+                    if name not in UNDERSCORED:
+                        self.assertRegex(name, r"^[A-Za-z][A-Za-z0-9_]*$")
+                        self.assertNotIn(name, dir(builtins))
+                        self.assertNotIn(name, NOT_USED)
+            for node in nodes:
+                if isinstance(node, ast.Name) and node.id in dir(builtins):
+                    with self.subTest(file=path.name, row=node.lineno):
+                        self.assertIn(node.id, PYTHONS_OWN)
+
+    def test_methods(self):
+        own = UNDERSCORED + [name for path in FILES for name in bound_names(nodes_of(path))]
+        for path in FILES:
+            for node in nodes_of(path):
+                if isinstance(node, ast.Attribute):
+                    with self.subTest(file=path.name, row=node.lineno):
+                        self.assertIn(node.attr, METHODS + own)
+
+
+if __name__ == "__main__":
+    unittest.main()

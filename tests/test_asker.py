@@ -1,12 +1,51 @@
-"""Points 2 and 3 for stage 1: what is handed in stays, what is told is the asker's own."""
+"""Point 2: what is handed in stays, what is told is the asker's own."""
 
 import copy
 import unittest
 
 from mirrorhouse.errors import NoHouse
 from mirrorhouse.houses import check_house, pull, read_house, read_word, shown_house, turn_of
+from mirrorhouse.least import least, parted, same, turned
+from mirrorhouse.papers import to_least, walked
+from mirrorhouse.rows import images, is_above, is_below, led, mirrored, simple
+from mirrorhouse.words import is_short, length, shortened
 
 TURNS = [(2, 3, 5), (0, 1, 3), (1, 2, 0)]
+WORD = (3, 2, 3, 0, 0, 1, 0, 1, 3)
+ROW = ((3, -2), (0, 0), (-1, 1), (7, 5))
+PAPER = [("drop", 3), ("turn", 3, 1, 0), ("drop", 0)]
+
+# Everything that is told of a house, a word, a row and a paper.
+QUESTIONS = [
+    lambda house, word, row, paper: simple(house, 2),
+    lambda house, word, row, paper: mirrored(house, 2, row),
+    lambda house, word, row, paper: led(house, word, row),
+    lambda house, word, row, paper: images(house, word),
+    lambda house, word, row, paper: is_above(row),
+    lambda house, word, row, paper: is_below(row),
+    lambda house, word, row, paper: is_short(house, word),
+    lambda house, word, row, paper: shortened(house, word),
+    lambda house, word, row, paper: length(house, word),
+    lambda house, word, row, paper: least(house, word),
+    lambda house, word, row, paper: same(house, word, word[1:]),
+    lambda house, word, row, paper: parted(house, word, word[1:]),
+    lambda house, word, row, paper: turned(house, word),
+    lambda house, word, row, paper: turned(house, word[:3]),
+    lambda house, word, row, paper: to_least(house, word),
+    lambda house, word, row, paper: walked(house, word, paper[:2]),
+    lambda house, word, row, paper: walked(house, word, paper),
+]
+LISTS = [
+    lambda: images((3, [(0, 1, 3)]), ()),
+    lambda: images((3, [(0, 1, 3)]), (0, 1)),
+    lambda: shortened((3, [(0, 1, 3)]), (0, 0))[1],
+    lambda: shortened((3, [(0, 1, 3)]), (0, 1))[1],
+    lambda: turned((3, [(0, 1, 3)]), ()),
+    lambda: turned((3, [(0, 1, 3)]), (0, 1)),
+    lambda: turned((3, [(0, 1, 3)]), (0, 1, 0, 1)),
+    lambda: to_least((3, [(0, 1, 3)]), ()),
+    lambda: to_least((3, [(0, 1, 3)]), (1, 0, 1, 2, 2)),
+]
 
 
 class HandedIn(unittest.TestCase):
@@ -43,8 +82,58 @@ class HandedIn(unittest.TestCase):
         with self.assertRaises(NoHouse):
             check_house(house)
 
+    def test_what_every_question_is_handed_stays_as_it_was(self):
+        for number, question in enumerate(QUESTIONS):
+            with self.subTest(number=number):
+                handed = ((4, list(TURNS)), WORD, ROW, list(PAPER))
+                before = copy.deepcopy(handed)
+                question(*handed)
+                self.assertEqual(handed, before)
+
+    def test_what_is_told_stays_when_the_house_changes(self):
+        for number, question in enumerate(QUESTIONS):
+            with self.subTest(number=number):
+                house = (4, list(TURNS))
+                paper = list(PAPER)
+                told = question(house, WORD, ROW, paper)
+                before = copy.deepcopy(told)
+                house[1].clear()
+                paper.clear()
+                self.assertEqual(told, before)
+
+    def test_each_question_looks_at_the_house_anew(self):
+        for number, question in enumerate(QUESTIONS):
+            with self.subTest(number=number):
+                house = (4, [(0, 1, 4), (1, 2, 4), (2, 3, 4)])
+                question(house, WORD, ROW, list(PAPER))
+                house[1].clear()
+                house[1].extend(TURNS)
+                expected = question((4, list(TURNS)), WORD, ROW, list(PAPER))
+                self.assertEqual(question(house, WORD, ROW, list(PAPER)), expected)
+
 
 class Told(unittest.TestCase):
+    def test_what_the_asker_does_to_a_list_changes_nothing_told_later(self):
+        for number, told in enumerate(LISTS):
+            with self.subTest(number=number):
+                first = told()
+                second = told()
+                expected = copy.deepcopy(first)
+                first.append("the asker's own")
+                self.assertEqual(second, expected)
+                self.assertEqual(told(), expected)
+                second.clear()
+                self.assertEqual(told(), expected)
+                self.assertEqual(first, expected + ["the asker's own"])
+
+    def test_a_paper_handed_in_is_not_the_one_that_is_told(self):
+        house = (3, [(0, 1, 3)])
+        paper = to_least(house, (1, 0, 1))
+        self.assertEqual(walked(house, (1, 0, 1), paper), (0, 1, 0))
+        paper.clear()
+        self.assertEqual(walked(house, (1, 0, 1), paper), (1, 0, 1))
+        self.assertEqual(walked(house, (1, 0, 1), to_least(house, (1, 0, 1))), (0, 1, 0))
+
     def test_what_the_asker_does_to_a_house_changes_nothing_told_later(self):
         for text in ("1", "3 ab3 bc5"):
             first = read_house(text)

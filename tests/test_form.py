@@ -36,6 +36,9 @@ WORDS_NOWHERE = re.compile(
     r"|NamedTuple|TypedDict|TYPE_CHECKING|abstractmethod)\b|dataclass|overload|contextmanager"
 )
 
+WALKED_AT_ONCE = "zip enumerate reversed range".split()
+WALKED_IN = "list tuple dict sorted sum any all enumerate zip min max".split()
+
 NOT_USED = "register mro elements open input version_info with_traceback add_note format format_map".split()
 
 
@@ -57,6 +60,23 @@ def bound_names(nodes):
         elif isinstance(node, ast.ExceptHandler) and node.name:
             names.append(node.name)
     return names
+
+
+def drawn_from(path):
+    modules = [node.module for node in nodes_of(path) if isinstance(node, ast.ImportFrom)]
+    return [module.split(".")[-1] for module in modules]
+
+
+def walked_on_the_spot(nodes):
+    """The nodes that stand behind the `in` of a loop or a comprehension, or first in what walks them."""
+    spots = [node.iter for node in nodes if isinstance(node, (ast.For, ast.comprehension))]
+    for node in nodes:
+        if isinstance(node, ast.Call) and isinstance(node.func, ast.Name) and node.args:
+            if node.func.id == "zip":
+                spots += node.args
+            elif node.func.id in WALKED_IN:
+                spots.append(node.args[0])
+    return spots
 
 
 class Form(unittest.TestCase):
@@ -135,6 +155,41 @@ class Form(unittest.TestCase):
                         self.assertRegex(node.module, r"^mirrorhouse\.[a-z_]+$")
                         for name in node.names:
                             self.assertNotEqual(name.name, "*")
+
+    def test_no_two_files_draw_from_one_another(self):
+        waiting = {path.stem: drawn_from(path) for path in FILES}
+        while waiting:
+            free = [name for name, modules in waiting.items() if not any(module in waiting for module in modules)]
+            self.assertNotEqual(free, [], waiting)
+            for name in free:
+                del waiting[name]
+
+    def test_a_name_of_a_file_s_imports_and_classes_is_bound_once(self):
+        for path in FILES:
+            nodes = nodes_of(path)
+            taken = [name.name for node in nodes if isinstance(node, ast.ImportFrom) for name in node.names]
+            bound = bound_names(nodes)
+            classes = [node.name for node in nodes if isinstance(node, ast.ClassDef)]
+            for name in taken:
+                self.assertNotIn(name, bound, path)
+            for name in classes:
+                self.assertEqual(bound.count(name), 1, path)
+
+    def test_is_stands_beside_none_true_and_false_alone(self):
+        for path in FILES:
+            for node in nodes_of(path):
+                if isinstance(node, ast.Compare) and isinstance(node.ops[0], (ast.Is, ast.IsNot)):
+                    self.assertIsInstance(node.comparators[0], ast.Constant)
+                    self.assertIn(node.comparators[0].value, (None, True, False))
+
+    def test_walked_at_once(self):
+        for path in FILES:
+            nodes = nodes_of(path)
+            spots = walked_on_the_spot(nodes)
+            for node in nodes:
+                if isinstance(node, ast.Call) and isinstance(node.func, ast.Name) and node.func.id in WALKED_AT_ONCE:
+                    with self.subTest(file=path.name, row=node.lineno):
+                        self.assertIn(node, spots)
 
     def test_names(self):
         for path in FILES:

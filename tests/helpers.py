@@ -202,3 +202,164 @@ def without_pairs(word):
         else:
             kept.append(mirror)
     return tuple(kept)
+
+
+def chain_of(*turns):
+    """A house whose mirrors in order turn round so, each with the one behind it."""
+    return (len(turns) + 1, [(i, i + 1, m) for i, m in enumerate(turns)])
+
+
+def chain_with_one_beside(mirrors, beside):
+    """A chain whose last mirror stands beside the mirror told, not at its end; all turn round by 3."""
+    return (mirrors, [(i, i + 1, 3) for i in range(mirrors - 2)] + [(beside, mirrors - 1, 3)])
+
+
+# One house of each kind but the never ending one.
+KIND_HOUSES = {
+    "a1": chain_of(), "a2": chain_of(3), "a3": chain_of(3, 3), "a4": chain_of(3, 3, 3), "a5": chain_of(3, 3, 3, 3),
+    "a6": chain_of(3, 3, 3, 3, 3),
+    "b2": chain_of(4), "b3": chain_of(3, 4), "b4": chain_of(3, 3, 4), "b5": chain_of(3, 3, 3, 4),
+    "b6": chain_of(3, 3, 3, 3, 4),
+    "d4": chain_with_one_beside(4, 1), "d5": chain_with_one_beside(5, 1), "d6": chain_with_one_beside(6, 1),
+    "e6": chain_with_one_beside(6, 2),
+    "f4": chain_of(3, 4, 3), "h3": chain_of(3, 5), "h4": chain_of(3, 3, 5), "i5": chain_of(5), "i6": chain_of(6),
+}
+
+KIND_DEGREES = {
+    "a1": [2], "a2": [2, 3], "a3": [2, 3, 4], "a4": [2, 3, 4, 5], "a5": [2, 3, 4, 5, 6], "a6": [2, 3, 4, 5, 6, 7],
+    "b2": [2, 4], "b3": [2, 4, 6], "b4": [2, 4, 6, 8], "b5": [2, 4, 6, 8, 10], "b6": [2, 4, 6, 8, 10, 12],
+    "d4": [2, 4, 4, 6], "d5": [2, 4, 5, 6, 8], "d6": [2, 4, 6, 6, 8, 10],
+    "e6": [2, 5, 6, 8, 9, 12], "f4": [2, 6, 8, 12], "h3": [2, 6, 10], "h4": [2, 12, 20, 30],
+    "i5": [2, 5], "i6": [2, 6],
+}
+
+
+def ring_of(*turns):
+    last = len(turns) - 1
+    return (len(turns), [(i, i + 1, m) for i, m in enumerate(turns[:-1])] + [(0, last, turns[-1])])
+
+
+def star_of(*turns):
+    return (len(turns) + 1, [(0, i, m) for i, m in enumerate(turns, start=1)])
+
+
+# Parts that are nearly of a kind, but are not.
+NEARLY = (
+    [ring_of(*[3] * mirrors) for mirrors in (3, 4, 5, 6)]
+    + [ring_of(3, 3, 4), ring_of(3, 4, 5), ring_of(6, 6, 6), ring_of(3, 3, 3, 0), ring_of(3, 3, 3, 3, 4)]
+    # A mirror with four neighbours or five.
+    + [star_of(3, 3, 3, 3), star_of(3, 3, 3, 3, 3), (6, [(0, 1, 3), (0, 2, 3), (0, 3, 3), (0, 4, 3), (4, 5, 3)])]
+    # Two mirrors with three neighbours.
+    + [(6, [(0, 2, 3), (1, 2, 3), (2, 3, 3), (3, 4, 3), (3, 5, 3)])]
+    # A mirror with three neighbours, and a ring.
+    + [(4, [(0, 1, 3), (1, 2, 3), (2, 3, 3), (1, 3, 3)]), (5, [(0, 1, 3), (1, 2, 3), (2, 3, 3), (1, 3, 3), (3, 4, 3)]),
+       (6, [(0, 1, 3), (1, 2, 3), (2, 3, 3), (3, 4, 3), (4, 5, 3), (1, 5, 3)])]
+    # A mirror with three neighbours, and one turn that is not by 3.
+    + [star_of(3, 3, m) for m in (4, 5, 6, 0)]
+    + [(5, [(0, 1, 3), (1, 2, 3), (2, 3, m), (1, 4, 3)]) for m in (4, 5, 6, 0)]
+    + [(6, [(0, 1, 3), (1, 2, 3), (2, 3, 3), (3, 4, 3), (2, 5, m)]) for m in (4, 5, 6, 0)]
+    + [(6, [(0, 1, m), (1, 2, 3), (2, 3, 3), (3, 4, 3), (2, 5, 3)]) for m in (4, 5, 6, 0)]
+    # A 4 at another place.
+    + [chain_of(3, 4, 3, 3), chain_of(3, 3, 4, 3, 3), chain_of(3, 4, 3, 3, 3)]
+    # A 5 at another place, or too many mirrors with it.
+    + [chain_of(3, 5, 3), chain_of(3, 3, 3, 5), chain_of(3, 3, 3, 3, 5), chain_of(3, 3, 5, 3), chain_of(3, 3, 5, 3, 3)]
+    # A 6 with more than two mirrors.
+    + [chain_of(3, 6), chain_of(3, 6, 3), chain_of(3, 3, 6), chain_of(3, 3, 3, 6), chain_of(3, 3, 3, 3, 6)]
+    # Two of them.
+    + [chain_of(one, other) for one in (4, 5, 6) for other in (4, 5, 6)]
+    + [chain_of(one, 3, other) for one in (4, 5, 6) for other in (4, 5, 6)]
+    + [chain_of(4, 3, 3, 4), chain_of(4, 3, 3, 3, 4), chain_of(3, 4, 4), chain_of(3, 4, 5), chain_of(4, 3, 3, 3, 5)]
+    # Never.
+    + [chain_of(0), chain_of(3, 0), chain_of(0, 0), chain_of(3, 0, 3), chain_of(3, 3, 0), chain_of(4, 0),
+       chain_of(3, 3, 3, 3, 0), chain_of(5, 0), chain_of(0, 6)]
+)
+
+
+def renumbered(house, numbering):
+    """The house with the mirror i called numbering[i]."""
+    turns = [(*sorted((numbering[i], numbering[j])), m) for i, j, m in house[1]]
+    return (house[0], turns)
+
+
+def beside(houses):
+    """All the houses together as the parts of one."""
+    mirrors = 0
+    turns = []
+    for house in houses:
+        turns += [(mirrors + i, mirrors + j, m) for i, j, m in house[1]]
+        mirrors += house[0]
+    return (mirrors, turns)
+
+
+def every_numbering(mirrors):
+    return list(itertools.permutations(range(mirrors)))
+
+
+def some_numberings(mirrors, how_many, seed):
+    chance = random.Random(seed)
+    return [tuple(chance.sample(range(mirrors), mirrors)) for _ in range(how_many)]
+
+
+def kinds_together(most_mirrors, names):
+    """Every choice of kinds, also one several times, with at most so many mirrors together."""
+    choices = []
+    for many in range(1, most_mirrors + 1):
+        for choice in itertools.combinations_with_replacement(names, many):
+            if sum(KIND_HOUSES[name][0] for name in choice) <= most_mirrors:
+                choices.append(choice)
+    return choices
+
+
+def table_roots(house, most):
+    """The roots above nought, or None where there are more than most."""
+    roots = {table_simple(house, i) for i in range(house[0])}
+    waiting = list(roots)
+    while waiting and len(roots) <= most:
+        root = waiting.pop()
+        for i in range(house[0]):
+            other = table_mirrored(house, i, root)
+            if root != table_simple(house, i) and other not in roots:
+                roots.add(other)
+                waiting.append(other)
+    return roots if len(roots) <= most else None
+
+
+def table_levels(house, most_signs):
+    """For each number of signs up to most the least words, in order, as long as there are some."""
+    start = tuple(table_simple(house, i) for i in range(house[0]))
+    before, level, levels = {}, {start: ()}, []
+    while level and len(levels) <= most_signs:
+        levels.append(sorted(level.values()))
+        longer = {}
+        for rows, word in level.items():
+            # A sign is put ahead: what is left of a least word without its first sign is a least word too.
+            for i in range(house[0]):
+                other = tuple(table_mirrored(house, i, row) for row in rows)
+                if other not in before:
+                    longer[other] = min((i,) + word, longer.get(other, (house[0],)))
+        before, level = level, longer
+    return levels
+
+
+def steps_from_a_corner(house):
+    """How many places lie at each number of steps, by numbers that stand at the mirrors and are passed to neighbours.
+
+    At the beginning there's a 1 at each mirror; a mirror changes the sign of its number and passes it on.
+    """
+    pulls = [[(j, table_pull(house, i, j)) for j in range(house[0]) if table_turn(house, i, j) != 2 or i == j]
+             for i in range(house[0])]
+    before, level, told = set(), {((1, 0),) * house[0]}, []
+    while level:
+        told.append(len(level))
+        further = set()
+        for numbers in level:
+            for i in range(house[0]):
+                a, b = numbers[i]
+                passed = list(numbers)
+                for j, (c, d) in pulls[i]:
+                    e, f = passed[j]
+                    passed[j] = (e - a * c - b * d, f - a * d - b * c - b * d)
+                if tuple(passed) not in before:
+                    further.add(tuple(passed))
+        before, level = level, further
+    return told

@@ -213,6 +213,31 @@ class Form(unittest.TestCase):
                     with self.subTest(file=path.name, row=node.lineno):
                         self.assertIn(node.attr, METHODS + own)
 
+    def test_no_name_is_a_method_and_a_value(self):
+        methods, values = [], []
+        for path in FILES:
+            for node in nodes_of(path):
+                if isinstance(node, ast.ClassDef):
+                    methods += [part.name for part in node.body if isinstance(part, ast.FunctionDef)]
+                if isinstance(node, ast.Attribute) and isinstance(node.ctx, ast.Store):
+                    values.append(node.attr)
+        self.assertEqual(set(methods) & set(values), set())
+
+    def test_lists_and_dicts_of_a_file_s_top_hold_none_and_are_only_read(self):
+        changes = "append clear extend insert pop remove reverse setdefault update".split()
+        for path in FILES:
+            top = [node for node in ast.parse(path.read_text(encoding="utf-8")).body if isinstance(node, ast.Assign)]
+            names = [node.targets[0].id for node in top]
+            self.assertEqual(len(set(names)), len(names))
+            for node in top:
+                inner = [part for part in ast.walk(node.value) if isinstance(part, (ast.List, ast.Dict))]
+                self.assertLessEqual(len(inner), 1, path)
+            for node in nodes_of(path):
+                if isinstance(node, ast.Subscript) and isinstance(node.ctx, ast.Store):
+                    self.assertNotIn(getattr(node.value, "id", None), names)
+                if isinstance(node, ast.Attribute) and node.attr in changes:
+                    self.assertNotIn(getattr(node.value, "id", None), names)
+
 
 if __name__ == "__main__":
     unittest.main()
